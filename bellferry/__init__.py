@@ -1,0 +1,1 @@
+"""Bellferry: words carried between islands, each with a bell of its own."""

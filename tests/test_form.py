@@ -1,0 +1,216 @@
+"""The form of the package's files, as far as it can be told by looking at them."""
+
+import ast
+import builtins
+import pathlib
+import re
+import unittest
+
+PACKAGE = pathlib.Path(__file__).resolve().parent.parent / "bellferry"
+
+# Statements and expressions that the program may be made of.
+ALLOWED = (
+    ast.Module, ast.ImportFrom, ast.alias, ast.FunctionDef, ast.arguments, ast.arg, ast.Lambda, ast.ClassDef,
+    ast.Assign, ast.AugAssign, ast.If, ast.While, ast.For, ast.Return, ast.Break, ast.Continue, ast.Pass,
+    ast.Raise, ast.Try, ast.ExceptHandler, ast.Expr, ast.Constant, ast.List, ast.Tuple, ast.Dict, ast.Set,
+    ast.BinOp, ast.UnaryOp, ast.BoolOp, ast.Compare, ast.IfExp, ast.Call, ast.keyword, ast.Attribute,
+    ast.Subscript, ast.Slice, ast.ListComp, ast.comprehension, ast.JoinedStr, ast.FormattedValue, ast.Name,
+    ast.operator, ast.unaryop, ast.boolop, ast.cmpop, ast.expr_context,
+)
+
+BUILT_IN = """
+len range enumerate zip min max sum abs sorted reversed int str bool list tuple dict set frozenset isinstance ord
+repr any all divmod Exception ValueError TypeError KeyError IndexError LookupError ZeroDivisionError ArithmeticError
+OverflowError RuntimeError NotImplementedError AttributeError StopIteration
+""".split()
+
+METHODS = """
+append clear copy count endswith extend find get index insert isalnum isalpha isdigit islower isspace isupper items
+join keys ljust lower lstrip partition pop remove replace reverse rfind rjust rpartition rsplit rstrip setdefault split
+splitlines startswith strip update upper values zfill bit_length
+""".split()
+
+# Words that stand nowhere in a file, and those that stand in no longer word either.
+BARRED = """
+type typing typing_extensions enum Enum IntEnum StrEnum Flag IntFlag Generic Protocol ABC ABCMeta namedtuple
+NamedTuple TypedDict TYPE_CHECKING abstractmethod
+""".split()
+BARRED_WITHIN = ("dataclass", "overload", "contextmanager")
+
+# Names that are used nowhere, neither by themselves nor behind a dot.
+UNUSED = "register mro elements open input version_info with_traceback add_note format format_map".split()
+
+PYTHONS_OWN = dir(builtins)
+
+
+def trees():
+    return [(path, ast.parse(path.read_text(encoding="utf-8"))) for path in sorted(PACKAGE.glob("*.py"))]
+
+
+def nodes(*kinds):
+    return [(path.name, node) for path, tree in trees() for node in ast.walk(tree) if isinstance(node, kinds)]
+
+
+class FormTest(unittest.TestCase):
+    def test_the_folder_holds_plain_files_alone(self):
+        names = [path.name for path in PACKAGE.iterdir() if path.name != "__pycache__"]
+        self.assertIn("__init__.py", names)
+        for name in names:
+            self.assertRegex(name, r"^(__init__|__main__|[a-z][a-z0-9_]*)\.py$")
+            self.assertNotIn(name[:-3], PYTHONS_OWN + BARRED)
+            self.assertNotRegex(name, r"^(tests?|testing|test_.*|site|conftest|sitecustomize|usercustomize)\.py$")
+
+    def test_signs_and_lengths(self):
+        for path in PACKAGE.glob("*.py"):
+            rows = path.read_bytes().decode("ascii").split("\n")
+            self.assertLessEqual(len(rows), 400)
+            for row in rows:
+                self.assertRegex(row, r"^[ -~]{0,120}$", path.name)
+
+    def test_functions_have_at_most_40_lines(self):
+        for name, node in nodes(ast.FunctionDef):
+            self.assertLessEqual(node.end_lineno - node.lineno + 1, 40, (name, node.name))
+
+    def test_barred_words_stand_nowhere(self):
+        for path in PACKAGE.glob("*.py"):
+            text = path.read_text(encoding="utf-8")
+            for word in BARRED:
+                self.assertIsNone(re.search(rf"\b{word}\b", text), (path.name, word))
+            for word in BARRED_WITHIN:
+                self.assertNotIn(word, text, path.name)
+
+    def test_only_the_allowed_statements_and_expressions(self):
+        for name, node in nodes(ast.AST):
+            self.assertIsInstance(node, ALLOWED, (name, getattr(node, "lineno", None)))
+        for name, node in nodes(ast.Div, ast.MatMult):
+            self.fail((name, "no such operator"))
+        for name, node in nodes(ast.For, ast.While):
+            self.assertEqual(node.orelse, [], (name, node.lineno))
+        for name, node in nodes(ast.Assign):
+            self.assertEqual(len(node.targets), 1, (name, node.lineno))
+        for name, node in nodes(ast.Try):
+            self.assertEqual(node.finalbody, [], (name, node.lineno))
+        for name, node in nodes(ast.FunctionDef, ast.ClassDef):
+            self.assertEqual(node.decorator_list, [], (name, node.lineno))
+
+    def test_plain_values(self):
+        for name, node in nodes(ast.Constant):
+            self.assertIsInstance(node.value, (int, str, type(None)), (name, node.lineno))
+            if isinstance(node.value, str):
+                self.assertNotIn("%", node.value, (name, node.lineno))
+
+    def test_parameters_are_plain(self):
+        for name, node in nodes(ast.arguments):
+            self.assertEqual((node.vararg, node.kwarg, node.kwonlyargs, node.posonlyargs), (None, None, [], []), name)
+        for name, node in nodes(ast.arg):
+            self.assertIsNone(node.annotation, (name, node.lineno))
+
+    def test_imports_are_the_packages_own_and_stand_at_the_top(self):
+        for path, tree in trees():
+            at_top = [node for node in tree.body if isinstance(node, ast.ImportFrom)]
+            everywhere = [node for node in ast.walk(tree) if isinstance(node, ast.ImportFrom)]
+            self.assertEqual(at_top, everywhere, path.name)
+            for node in at_top:
+                self.assertEqual(node.level, 0)
+                package, dot, module = node.module.partition(".")
+                self.assertEqual(package, "bellferry")
+                source = ast.parse((PACKAGE / (module + ".py")).read_text(encoding="utf-8"))
+                for alias in node.names:
+                    self.assertIn(alias.name, bound_at_top(source), path.name)
+
+    def test_no_two_files_draw_from_one_another(self):
+        draws = {
+            path.stem: [node.module.partition(".")[2] for node in tree.body if isinstance(node, ast.ImportFrom)]
+            for path, tree in trees()
+        }
+        for start in draws:
+            reached = []
+            ahead = list(draws[start])
+            while ahead:
+                name = ahead.pop()
+                if name not in reached:
+                    reached.append(name)
+                    ahead.extend(draws[name])
+            self.assertNotIn(start, reached)
+
+    def test_the_top_holds_defs_and_each_name_once(self):
+        for path, tree in trees():
+            names = bound_at_top(tree)
+            self.assertEqual(len(names), len(set(names)), path.name)
+            self.assertIsNotNone(ast.get_docstring(tree), path.name)
+            for node in tree.body[1:]:
+                self.assertIsInstance(node, (ast.ImportFrom, ast.FunctionDef, ast.ClassDef, ast.Assign), path.name)
+
+    def test_names_are_plain_and_none_of_pythons_own(self):
+        for name, node in nodes(ast.arg, ast.FunctionDef, ast.ClassDef):
+            told = node.arg if isinstance(node, ast.arg) else node.name
+            if told not in ("__init__", "__eq__", "__repr__", "__str__", "__len__"):
+                self.assertRegex(told, r"^[A-Za-z][A-Za-z0-9_]*$", name)
+            self.assertNotIn(told, PYTHONS_OWN, name)
+        for name, node in nodes(ast.Name):
+            self.assertRegex(node.id, r"^[A-Za-z][A-Za-z0-9_]*$", name)
+            if isinstance(node.ctx, ast.Store):
+                self.assertNotIn(node.id, PYTHONS_OWN, (name, node.lineno))
+            elif node.id in PYTHONS_OWN:
+                self.assertIn(node.id, BUILT_IN, (name, node.lineno))
+
+    def test_no_local_is_called_like_a_class_or_an_import(self):
+        for path, tree in trees():
+            taken = [node.name for node in tree.body if isinstance(node, ast.ClassDef)]
+            for node in tree.body:
+                if isinstance(node, ast.ImportFrom):
+                    taken.extend([alias.asname or alias.name for alias in node.names])
+            for node in ast.walk(tree):
+                if isinstance(node, ast.arg):
+                    self.assertNotIn(node.arg, taken, path.name)
+                if isinstance(node, ast.Name) and isinstance(node.ctx, ast.Store):
+                    self.assertNotIn(node.id, taken, path.name)
+
+    def test_methods_that_are_called(self):
+        own = [node.name for name, node in nodes(ast.FunctionDef)]
+        for name, node in nodes(ast.Call):
+            if isinstance(node.func, ast.Attribute):
+                self.assertIn(node.func.attr, METHODS + own, (name, node.lineno))
+
+    def test_is_stands_beside_none_and_truths_alone(self):
+        for name, node in nodes(ast.Compare):
+            for operator, right in zip(node.ops, node.comparators):
+                if isinstance(operator, (ast.Is, ast.IsNot)):
+                    self.assertIsInstance(right, ast.Constant, (name, node.lineno))
+                    self.assertIn(right.value, (None, True, False))
+
+    def test_exponents_are_written_out(self):
+        for name, node in nodes(ast.BinOp):
+            if isinstance(node.op, ast.Pow):
+                self.assertIsInstance(node.right, ast.Constant, (name, node.lineno))
+                self.assertIn(node.right.value, range(65), (name, node.lineno))
+
+    def test_comprehensions_have_one_for_and_at_most_one_if(self):
+        for name, node in nodes(ast.ListComp):
+            self.assertEqual(len(node.generators), 1, (name, node.lineno))
+            self.assertLessEqual(len(node.generators[0].ifs), 1, (name, node.lineno))
+
+    def test_a_set_is_neither_kept_nor_walked(self):
+        held = []
+        for name, node in nodes(ast.Call, ast.Compare):
+            if isinstance(node, ast.Compare):
+                held.extend([(name, ast.dump(part, include_attributes=True)) for part in node.comparators + [node.left]])
+            elif isinstance(node.func, ast.Name) and node.func.id in ("sorted", "len"):
+                held.extend([(name, ast.dump(part, include_attributes=True)) for part in node.args])
+        for name, node in nodes(ast.Call):
+            if isinstance(node.func, ast.Name) and node.func.id in ("set", "frozenset"):
+                self.assertIn((name, ast.dump(node, include_attributes=True)), held)
+
+    def test_names_that_are_not_used(self):
+        for name, node in nodes(ast.Name, ast.Attribute):
+            self.assertNotIn(node.id if isinstance(node, ast.Name) else node.attr, UNUSED, (name, node.lineno))
+
+
+def bound_at_top(tree):
+    names = []
+    for node in tree.body:
+        if isinstance(node, (ast.FunctionDef, ast.ClassDef)):
+            names.append(node.name)
+        if isinstance(node, ast.Assign):
+            names.append(node.targets[0].id)
+    return names
