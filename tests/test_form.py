@@ -40,6 +40,18 @@ BARRED_WITHIN = ("dataclass", "overload", "contextmanager")
 # Names that are used nowhere, neither by themselves nor behind a dot.
 UNUSED = "register mro elements open input version_info with_traceback add_note format format_map".split()
 
+# Names that are not used by themselves; those of Python's own among them are seen elsewhere.
+NO_NAMES = "attrgetter builtins gc importlib methodcaller os sys".split()
+
+# What is made of these is walked at once: behind the "in" of a walk, or as the first thing in one of the takers.
+WALKED = "zip enumerate reversed range items keys values".split()
+TAKERS = "list tuple dict sorted sum any all enumerate zip min max join".split()
+
+KEYWORDS = {
+    "sorted": ["key", "reverse"], "min": ["key", "default"], "max": ["key", "default"], "sum": ["start"],
+    "enumerate": ["start"], "zip": ["strict"],
+}
+
 PYTHONS_OWN = dir(builtins)
 
 
@@ -88,6 +100,7 @@ class FormTest(unittest.TestCase):
             self.assertEqual(node.orelse, [], (name, node.lineno))
         for name, node in nodes(ast.Assign):
             self.assertEqual(len(node.targets), 1, (name, node.lineno))
+            self.assertNotIsInstance(node.targets[0], (ast.Tuple, ast.List), (name, node.lineno))
         for name, node in nodes(ast.Try):
             self.assertEqual(node.finalbody, [], (name, node.lineno))
         for name, node in nodes(ast.FunctionDef, ast.ClassDef):
@@ -204,6 +217,85 @@ class FormTest(unittest.TestCase):
     def test_names_that_are_not_used(self):
         for name, node in nodes(ast.Name, ast.Attribute):
             self.assertNotIn(node.id if isinstance(node, ast.Name) else node.attr, UNUSED, (name, node.lineno))
+        for name, node in nodes(ast.Name):
+            self.assertNotIn(node.id, NO_NAMES, (name, node.lineno))
+
+    def test_an_f_string_holds_plain_names(self):
+        for name, node in nodes(ast.FormattedValue):
+            self.assertIsInstance(node.value, ast.Name, (name, node.lineno))
+            self.assertIsNone(node.format_spec, (name, node.lineno))
+            self.assertIn(node.conversion, (-1, ord("r")), (name, node.lineno))
+
+    def test_what_is_walked_is_walked_at_once(self):
+        for path, tree in trees():
+            walked = []
+            for node in ast.walk(tree):
+                if isinstance(node, (ast.For, ast.comprehension)):
+                    walked.append(node.iter)
+                if isinstance(node, ast.Call) and called(node) in TAKERS:
+                    walked.extend(node.args if called(node) in ("zip", "min", "max") else node.args[:1])
+            for node in ast.walk(tree):
+                if isinstance(node, ast.Call) and called(node) in WALKED:
+                    self.assertTrue(any(node is one for one in walked), (path.name, node.lineno))
+
+    def test_what_a_loop_walks_is_not_changed_in_it(self):
+        changes = "append clear extend insert pop remove reverse setdefault update".split()
+        for name, loop in nodes(ast.For):
+            walked = {one.id for one in ast.walk(loop.iter) if isinstance(one, ast.Name)}
+            for node in ast.walk(loop):
+                if isinstance(node, ast.Call) and isinstance(node.func, ast.Attribute) and node.func.attr in changes:
+                    self.assertNotIn(ast.unparse(node.func.value), walked, (name, node.lineno))
+                if isinstance(node, ast.Subscript) and isinstance(node.ctx, ast.Store):
+                    self.assertNotIn(ast.unparse(node.value), walked, (name, node.lineno))
+
+    def test_an_error_is_made_on_the_spot_and_taken_by_its_name(self):
+        for name, node in nodes(ast.Raise):
+            self.assertIsInstance(node.exc, ast.Call, (name, node.lineno))
+            self.assertIsInstance(node.exc.func, ast.Name, (name, node.lineno))
+        for name, node in nodes(ast.ExceptHandler):
+            self.assertIsNotNone(node.type, (name, node.lineno))
+            for one in ast.walk(node.type):
+                if isinstance(one, ast.Name):
+                    self.assertNotIn(one.id, ("Exception", "TypeError"), (name, node.lineno))
+
+    def test_keywords_at_pythons_own(self):
+        for name, node in nodes(ast.Call):
+            if called(node) in BUILT_IN + METHODS:
+                for keyword in node.keywords:
+                    self.assertIn(keyword.arg, KEYWORDS.get(called(node), []), (name, node.lineno))
+
+    def test_pythons_own_are_called_and_not_kept(self):
+        """But for the kinds beside isinstance and the bases of the errors."""
+        for path, tree in trees():
+            fine = []
+            for node in ast.walk(tree):
+                if isinstance(node, ast.Call):
+                    fine.append(node.func)
+                    if called(node) == "isinstance":
+                        fine.extend(ast.walk(node.args[1]))
+                if isinstance(node, ast.ClassDef):
+                    fine.extend(node.bases)
+                if isinstance(node, ast.ExceptHandler):
+                    fine.extend(ast.walk(node.type))
+            for node in ast.walk(tree):
+                if isinstance(node, ast.Name) and node.id in BUILT_IN:
+                    self.assertTrue(any(node is one for one in fine), (path.name, node.lineno))
+
+    def test_a_top_list_or_dict_holds_none_itself(self):
+        for path, tree in trees():
+            for node in tree.body:
+                if isinstance(node, ast.Assign):
+                    inner = [one for one in ast.walk(node.value) if isinstance(one, (ast.List, ast.Dict, ast.Set))]
+                    self.assertLessEqual(len(inner), 1, (path.name, node.lineno))
+
+    def test_backslashes_stand_ahead_of_plain_escapes_alone(self):
+        for path in PACKAGE.glob("*.py"):
+            for sign in re.findall(r"\\(.)", path.read_text(encoding="utf-8"), re.DOTALL):
+                self.assertIn(sign, ("n", "t", "\\", "'", '"'), path.name)
+
+
+def called(node):
+    return node.func.attr if isinstance(node.func, ast.Attribute) else getattr(node.func, "id", None)
 
 
 def bound_at_top(tree):

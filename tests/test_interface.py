@@ -9,6 +9,21 @@ ARGUMENTS = {
     },
     "codes": {"told_code": ["m"], "code_of": ["n"], "number_of": ["word"], "tear": ["code"]},
     "terms": {"size_of": ["T"], "vars_in": ["T"], "worth": ["T", "width", "words"]},
+    "steps": {
+        "wish": ["width", "steps", "number", "words"], "after": ["width", "steps", "number", "words", "word"],
+    },
+    "worlds": {
+        "made": ["width", "islands", "ferries"], "island_of": ["world", "name"], "ferry_of": ["world", "name"],
+        "ferries_at": ["world", "name"],
+    },
+    "plain": {
+        "first_stand": ["world"], "round_of": ["world", "stand"], "run_plain": ["world", "n"],
+        "chain": ["world", "stand", "name"],
+    },
+    "signs": {
+        "first_sign": ["word"], "shown": ["sign", "word", "moment"], "first_sight": ["word", "stages"],
+        "sampled": ["sign", "since", "choice"], "moved": ["sight", "word"], "used": ["sight"],
+    },
 }
 
 

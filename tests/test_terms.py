@@ -3,28 +3,9 @@ import unittest
 
 from bellferry.terms import size_of, vars_in, worth
 
-from helper import is_whole, mixed
+from helper import TWOS, deep, grown, is_whole, mixed, num, var, worth_by_hand
 
 FORTY = 1234567890123456789012345678901234567890
-TWOS = ("plus", "minus", "times", "less", "same")
-
-
-def num(n):
-    return ("num", n)
-
-
-def var(name):
-    return ("var", name)
-
-
-def deep(depth, form="plus"):
-    term = var("a")
-    for k in range(depth - 1):
-        if form == "pick":
-            term = ("pick", num(k % 2), num(k), term) if k % 3 else ("pick", term, num(k), var("b"))
-        else:
-            term = (form, term, num(k)) if k % 2 else (form, num(k), term)
-    return term
 
 
 def two_hundred_parts():
@@ -38,34 +19,6 @@ def two_hundred_parts():
         other = ("times", other, ("num", 2 * k + 1))
     term = ("plus", ("pick", side, chain, other), var("d"))
     return term
-
-
-def worth_by_hand(term, width, words):
-    """Another way to the same worth: all parts first, each cut with a mask."""
-    if term[0] == "num":
-        return term[1] & (2 ** width - 1)
-    if term[0] == "var":
-        return words[term[1]]
-    parts = [worth_by_hand(part, width, words) for part in term[1:]]
-    told = {
-        "plus": lambda: (parts[0] + parts[1]) & (2 ** width - 1),
-        "minus": lambda: (parts[0] - parts[1]) & (2 ** width - 1),
-        "times": lambda: (parts[0] * parts[1]) & (2 ** width - 1),
-        "less": lambda: int(parts[0] < parts[1]),
-        "same": lambda: int(parts[0] == parts[1]),
-        "pick": lambda: parts[1] if parts[0] else parts[2],
-    }
-    return told[term[0]]()
-
-
-def grown(row, depth):
-    """A term that the numbers of a row choose; the row is used up from its end."""
-    choice = row.pop() if row else 0
-    if depth == 1 or choice % 8 < 2:
-        return num(row.pop() - 200 if row else 3) if choice % 2 else var("abc"[choice % 3])
-    if choice % 8 == 7:
-        return ("pick", grown(row, depth - 1), grown(row, depth - 1), grown(row, depth - 1))
-    return (TWOS[choice % 5], grown(row, depth - 1), grown(row, depth - 1))
 
 
 class SizeTest(unittest.TestCase):
