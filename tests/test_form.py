@@ -288,6 +288,52 @@ class FormTest(unittest.TestCase):
                     inner = [one for one in ast.walk(node.value) if isinstance(one, (ast.List, ast.Dict, ast.Set))]
                     self.assertLessEqual(len(inner), 1, (path.name, node.lineno))
 
+    def test_classes_hold_methods_alone_and_each_once(self):
+        for name, node in nodes(ast.ClassDef):
+            self.assertLessEqual(len(node.bases), 1, (name, node.name))
+            methods = [one.name for one in node.body if isinstance(one, ast.FunctionDef)]
+            self.assertEqual(len(methods), len(set(methods)), (name, node.name))
+            for one in node.body:
+                self.assertIsInstance(one, (ast.FunctionDef, ast.Pass), (name, node.name))
+            for one in node.body:
+                if isinstance(one, ast.FunctionDef) and one.name == "__init__":
+                    self.assertFalse([part for part in ast.walk(one) if isinstance(part, ast.Return)], name)
+
+    def test_no_name_is_a_method_and_a_value(self):
+        methods = [one.name for name, node in nodes(ast.ClassDef) for one in node.body if isinstance(one, ast.FunctionDef)]
+        for name, node in nodes(ast.Attribute):
+            if isinstance(node.ctx, ast.Store):
+                self.assertNotIn(node.attr, methods, (name, node.lineno))
+                self.assertIsInstance(node.value, ast.Name, (name, node.lineno))
+
+    def test_methods_and_values_are_not_called_like_those_of_pythons_own_values(self):
+        barred = [one for kind in (str, int, list, tuple, dict, set, bytes) for one in dir(kind)]
+        told = [(name, one.name) for name, node in nodes(ast.ClassDef) for one in node.body if hasattr(one, "name")]
+        told.extend([(name, node.attr) for name, node in nodes(ast.Attribute) if isinstance(node.ctx, ast.Store)])
+        for name, one in told:
+            if one != "__init__":
+                self.assertNotIn(one, barred, name)
+
+    def test_a_top_list_or_dict_is_only_read(self):
+        for path, tree in trees():
+            tops = [
+                node.targets[0].id for node in tree.body
+                if isinstance(node, ast.Assign) and isinstance(node.value, (ast.List, ast.Dict))
+            ]
+            read = []
+            for node in ast.walk(tree):
+                if isinstance(node, ast.Subscript) and isinstance(node.ctx, ast.Load):
+                    read.append(node.value)
+                if isinstance(node, ast.Compare):
+                    read.extend(node.comparators)
+                if isinstance(node, (ast.For, ast.comprehension)):
+                    read.append(node.iter)
+                if isinstance(node, ast.Call) and called(node) == "len":
+                    read.extend(node.args)
+            for node in ast.walk(tree):
+                if isinstance(node, ast.Name) and isinstance(node.ctx, ast.Load) and node.id in tops:
+                    self.assertTrue(any(node is one for one in read), (path.name, node.lineno))
+
     def test_backslashes_stand_ahead_of_plain_escapes_alone(self):
         for path in PACKAGE.glob("*.py"):
             for sign in re.findall(r"\\(.)", path.read_text(encoding="utf-8"), re.DOTALL):

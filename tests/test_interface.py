@@ -24,6 +24,20 @@ ARGUMENTS = {
         "first_sign": ["word"], "shown": ["sign", "word", "moment"], "first_sight": ["word", "stages"],
         "sampled": ["sign", "since", "choice"], "moved": ["sight", "word"], "used": ["sight"],
     },
+    "ferries": {"Ferry": ["k", "stages"]},
+    "runs": {"Run": ["world"]},
+    "bounds": {"stretches": ["world", "names"], "bounds": ["world", "names"], "track": ["world", "n"]},
+    "texts": {"written": ["world"], "read": ["text"]},
+}
+
+METHODS = {
+    ("ferries", "Ferry"): {
+        "ring_giver": ["moment", "choice", "word"], "ring_taker": ["moment", "choice", "wished"], "counts": [],
+    },
+    ("runs", "Run"): {
+        "ring": ["name", "choice"], "number": ["name"], "words": ["name"], "steps_done": ["name"], "given": ["name"],
+        "taken": ["name"],
+    },
 }
 
 
@@ -34,3 +48,19 @@ class InterfaceTest(unittest.TestCase):
                 with self.subTest(module=module, name=name):
                     function = getattr(importlib.import_module("bellferry." + module), name)
                     self.assertEqual(list(inspect.signature(function).parameters), arguments)
+
+    def test_each_method_is_there_with_its_arguments(self):
+        for (module, kind), methods in METHODS.items():
+            for name, arguments in methods.items():
+                with self.subTest(module=module, kind=kind, name=name):
+                    method = getattr(getattr(importlib.import_module("bellferry." + module), kind), name)
+                    self.assertEqual(list(inspect.signature(method).parameters)[1:], arguments)
+
+    def test_all_may_be_handed_by_name(self):
+        ferry = importlib.import_module("bellferry.ferries").Ferry(k=1, stages=1)
+        self.assertEqual(ferry.ring_giver(moment=0, choice=0, word=3), (True, 0))
+        self.assertEqual(ferry.ring_taker(moment=1, choice=1, wished=True), (None, 1))
+        world = importlib.import_module("bellferry.worlds").made(width=8, islands=[("a", [], [])], ferries=[])
+        run = importlib.import_module("bellferry.runs").Run(world=world)
+        self.assertEqual(run.ring(name="a", choice=0), ("a", 0, ("done",), []))
+        self.assertEqual(run.number(name="a"), 0)

@@ -4,7 +4,7 @@ import unittest
 from bellferry.plain import chain, first_stand, round_of, run_plain
 from bellferry.worlds import made
 
-from helper import grown_world, is_whole, num, var, worth_by_hand
+from helper import grown_world, is_whole, num, round_by_hand, var
 
 
 def give(ferry, n):
@@ -18,35 +18,6 @@ def pair_world(k, gives, takes, turned=False):
         ("dst", [("a", 99)], [("take", "f", "a")] * takes),
     ]
     return made(8, islands[::-1] if turned else islands, [("f", "src", "dst", k, 1)])
-
-
-def round_by_hand(world, stand):
-    """Another way to a round: which ferries let it is asked of all of them ahead of any step."""
-    width, islands, ferries = world
-    numbers, words, given, taken = copy.deepcopy(stand)
-    under_way = {ferry[0]: len(given[ferry[0]]) - taken[ferry[0]] for ferry in ferries}
-    room = {ferry[0]: 2 ** ferry[3] - under_way[ferry[0]] for ferry in ferries}
-    did = []
-    for name, _, steps in islands:
-        if numbers[name] == len(steps):
-            continue
-        form, first, second = steps[numbers[name]]
-        own = words[name]
-        numbers[name] += 1
-        did.append(name)
-        if form == "put":
-            own[first] = worth_by_hand(second, width, own)
-        elif form == "jump" and worth_by_hand(first, width, own):
-            numbers[name] = second
-        elif form == "take" and under_way[first]:
-            own[second] = given[first][taken[first]]
-            taken[first] += 1
-        elif form == "give" and room[first]:
-            given[first].append(worth_by_hand(second, width, own))
-        elif form in ("take", "give"):
-            numbers[name] -= 1
-            did.pop()
-    return ((numbers, words, given, taken), did)
 
 
 def chain_by_hand(world, stand, name):
